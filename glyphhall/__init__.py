@@ -1,0 +1,1 @@
+"""Glyphhall: joined writing, shaped by rules."""
