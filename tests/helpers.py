@@ -1,5 +1,7 @@
 """What several test files ask for."""
 
+import copy
+
 from glyphhall.errors import BadHall
 from glyphhall.halls import read_hall
 
@@ -45,3 +47,43 @@ def fields_of(hall):
         "features": list(hall.features.items()),
         "rules": list(hall.rules),
     }
+
+
+def cells_of(text):
+    """The cells that a text tells: "a:0,1 b c:2" as (a, (0, 1)), (b, ()), (c, (2,))."""
+    cells = []
+    for word in text.split():
+        shape, colon, places = word.partition(":")
+        cells.append((shape, tuple(int(place) for place in places.split(",") if place)))
+    return cells
+
+
+def row_of(text):
+    """The cells of shapes parted by blanks, the k-th of the k-th letter."""
+    return [(shape, (place,)) for place, shape in enumerate(text.split())]
+
+
+def letters_in(cells):
+    """All letters of the cells, one behind the other."""
+    return [place for shape, letters in cells for place in letters]
+
+
+def check_apart(test, asked, hall, *given):
+    """That a function leaves what is handed in as it was, and that changing what it told changes nothing.
+
+    The function tells a list, or a tuple with lists among others.
+    """
+    fields = fields_of(hall)
+    kept = copy.deepcopy(given)
+    first = copy.deepcopy(asked(hall, *given))
+    told = asked(hall, *given)
+    test.assertEqual(told, first)
+    test.assertEqual(given, kept)
+    for part in told if isinstance(told, tuple) else (told,):
+        if isinstance(part, list):
+            part.reverse()
+            part.append("new")
+            part[0] = "other"
+    test.assertEqual(fields_of(hall), fields)
+    test.assertEqual(given, kept)
+    test.assertEqual(asked(hall, *given), first)
