@@ -68,22 +68,26 @@ def letters_in(cells):
     return [place for shape, letters in cells for place in letters]
 
 
-def check_apart(test, asked, hall, *given):
-    """That a function leaves what is handed in as it was, and that changing what it told changes nothing.
+def spoil(told):
+    """Changes all lists of what a function told, those within others too."""
+    if isinstance(told, (list, tuple)):
+        for part in told:
+            spoil(part)
+    if isinstance(told, list):
+        told.reverse()
+        told.append("new")
+        told[0] = "other"
 
-    The function tells a list, or a tuple with lists among others.
-    """
+
+def check_apart(test, asked, hall, *given):
+    """That a function leaves what is handed in as it was, and that changing what it told changes nothing."""
     fields = fields_of(hall)
     kept = copy.deepcopy(given)
     first = copy.deepcopy(asked(hall, *given))
     told = asked(hall, *given)
     test.assertEqual(told, first)
     test.assertEqual(given, kept)
-    for part in told if isinstance(told, tuple) else (told,):
-        if isinstance(part, list):
-            part.reverse()
-            part.append("new")
-            part[0] = "other"
+    spoil(told)
     test.assertEqual(fields_of(hall), fields)
     test.assertEqual(given, kept)
     test.assertEqual(asked(hall, *given), first)
