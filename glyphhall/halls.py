@@ -14,6 +14,7 @@ from glyphhall.names import is_name
 from glyphhall.names import is_number
 from glyphhall.names import words_of
 
+HALL_FORMS = ("shape", "mark", "point", "letter", "gap", "class", "feature", "rule")
 SIDES = ("above", "below")
 WAYS = ("left", "right", "either")
 SWITCHES = ("on", "off")

@@ -11,9 +11,13 @@ from glyphhall.names import class_of_item
 
 def fits(hall, item, shape):
     """Whether an item, a shape's name or @ and a class's name, fits a shape."""
+    return shape in fitting_shapes(hall, item)
+
+
+def fitting_shapes(hall, item):
     if item.startswith(CLASS_SIGN):
-        return shape in hall.classes.get(class_of_item(item), ())
-    return item == shape
+        return hall.classes.get(class_of_item(item), ())
+    return (item,)
 
 
 def done(hall, rule, cells, settings):
@@ -22,11 +26,14 @@ def done(hall, rule, cells, settings):
     # The row as it is now is always these cells and the ones from the place on: what is put in is passed at once.
     passed = []
     homes = homes_of(cells)
+    # Asked ahead of all else, since at most places not even the core's first item fits.
+    firsts = fitting_shapes(hall, rule[3][0])
     place = 0
     count = 0
     while place < len(cells):
         end = place + len(rule[3])
-        if items_fit(hall, rule, passed, cells, place) and is_on_at_all(hall, rule[1], settings, homes[place:end]):
+        whole = cells[place][0] in firsts and items_fit(hall, rule, passed, cells, place)
+        if whole and is_on_at_all(hall, rule[1], settings, homes[place:end]):
             passed.extend(told_cells(rule[5], cells[place:end]))
             place = end
             count = count + 1
@@ -50,7 +57,10 @@ def all_fit(hall, items, cells):
     # Over an end of the row there are fewer cells than items.
     if len(items) != len(cells):
         return False
-    return all([fits(hall, item, cell[0]) for item, cell in zip(items, cells)])
+    for item, cell in zip(items, cells):
+        if not fits(hall, item, cell[0]):
+            return False
+    return True
 
 
 def told_cells(told, core):

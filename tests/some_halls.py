@@ -28,8 +28,9 @@ def some_rule(chance, items, shapes, most=(2, 3, 2, 3)):
     return " / ".join(" ".join(part) for part in parts) + " > " + " ".join(told_words)
 
 
-def some_hall_text(chance, shapes=6, letters=3, rules=3, marks=0, joins=tuple(JOINS), most=(2, 3, 2, 3)):
-    """A hall's text: shapes s0, s1 and so on, letters l0 .., classes c0 .. c2, features f on and g off, rules r0 .."""
+def some_hall_text(chance, shapes=6, letters=3, rules=3, marks=0, classes=3, features="fg", most=(2, 3, 2, 3)):
+    """A hall's text: shapes s0, s1 and so on, letters l0 .., classes c0 .., features (the first one on, the last one off)
+    and rules r0 .. with at most so many items and told shapes."""
     names = [f"s{number}" for number in range(shapes)]
     rows = [f"shape {name} {chance.choice((0, 1, 2, 3, 5, 8, 13))}" for name in names]
     for name in chance.sample(names, marks):
@@ -39,15 +40,16 @@ def some_hall_text(chance, shapes=6, letters=3, rules=3, marks=0, joins=tuple(JO
         for side in chance.sample(("above", "below"), chance.randint(0, 2)):
             rows.append(f"point {name} {side} {chance.randint(-9, 9)} {chance.randint(-9, 9)}")
     for number in range(letters):
-        join = chance.choice(joins)
+        join = chance.choice(tuple(JOINS))
         faces = " ".join(some_words(chance, names, JOINS[join]))
         rows.append(f"letter l{number} {join} {chance.choice(WAYS)} {faces}")
     rows += [f"gap l{number}" for number in range(letters) if chance.random() < 0.4]
-    rows += [f"class c{number} " + " ".join(some_words(chance, names, chance.randint(1, 5))) for number in range(3)]
-    rows += ["feature f on", "feature g off"]
-    items = names + ["@c0", "@c1", "@c2"] * 2
+    for number in range(classes):
+        rows.append(f"class c{number} " + " ".join(some_words(chance, names, chance.randint(1, max(5, shapes // 3)))))
+    rows += [f"feature {name} {'off' if name == features[-1] else 'on'}" for name in features]
+    items = names + [f"@c{number}" for number in range(classes)] * 2
     for number in range(rules):
-        rows.append(f"rule r{number} {chance.choice('ffg')} " + some_rule(chance, items, names, most))
+        rows.append(f"rule r{number} {chance.choice(features[:1] + features)} " + some_rule(chance, items, names, most))
     return "\n".join(rows)
 
 
